@@ -35,6 +35,13 @@ NESTED_RULES = [
     (2, ((2, (0, 1, 2, 3)), (2, (2, 3, 4, 5)), (3, (0, 2, 4, 5)))),
 ]
 
+# Somewhat beyond the bounds of promise 5: no rules, but nothing else is refused for it.
+RULES_BEYOND = [
+    (3, (0, 1, 2, 3, 4, 5, 0)),
+    (2, ((3, (0, 1, 2, 3, 4, 5)), (4, (0, 1, 2, 3, 4, 5)), 3)),
+    (1, ((1, ((1, ((1, ((2, (1, 4)),)),)),)),)),
+]
+
 RULES = PLAIN_RULES + DOUBLED_RULES + NESTED_RULES
 
 

@@ -3,7 +3,7 @@
 import unittest
 
 from oneslate.rules import fills, least_masks, named
-from samples import ALL_MASKS, RULES, filled_by, keepers_in
+from samples import ALL_MASKS, RULES, RULES_BEYOND, filled_by, keepers_in
 
 
 class NamedTest(unittest.TestCase):
@@ -38,7 +38,7 @@ class FillsTest(unittest.TestCase):
                 self.assertEqual([mask for mask in range(8) if fills(rule, mask)], masks)
 
     def test_all_masks(self):
-        for rule in RULES:
+        for rule in RULES + RULES_BEYOND:
             for mask in ALL_MASKS:
                 with self.subTest(rule=rule, mask=mask):
                     self.assertIs(fills(rule, mask), filled_by(rule, keepers_in(mask)))
@@ -74,7 +74,7 @@ class LeastMasksTest(unittest.TestCase):
                 self.assertEqual(least_masks(rule), masks)
 
     def test_each_fills_and_with_any_one_keeper_fewer_does_not(self):
-        for rule in RULES:
+        for rule in RULES + RULES_BEYOND:
             least = []
             for mask in ALL_MASKS:
                 keepers = keepers_in(mask)

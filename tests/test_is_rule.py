@@ -4,7 +4,7 @@ import copy
 import unittest
 
 from oneslate.rules import is_rule
-from samples import ODD_THINGS, RULES, chained, wrapped
+from samples import ODD_THINGS, RULES, RULES_BEYOND, chained, wrapped
 
 SIX = (0, 1, 2, 3, 4, 5)
 
@@ -18,6 +18,7 @@ class IsRuleTest(unittest.TestCase):
 
     def test_rules(self):
         self.check(True, RULES)
+        self.check(False, RULES_BEYOND)
 
     def test_keepers(self):
         self.check(True, SIX)

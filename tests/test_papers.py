@@ -5,7 +5,7 @@ import itertools
 import unittest
 
 from oneslate.rules import paper_of, reads
-from samples import ALL_MASKS, ODD_THINGS, RULES, filled_by, keepers_in
+from samples import ALL_MASKS, ODD_THINGS, RULES, RULES_BEYOND, filled_by, keepers_in
 
 
 def count_due(rule, told):
@@ -87,7 +87,7 @@ class PaperOfTest(unittest.TestCase):
                 self.assertEqual(repr(paper_of(rule, mask)), repr(paper))
 
     def test_the_first_places_each_and_just_so_many(self):
-        for rule in RULES:
+        for rule in RULES + RULES_BEYOND:
             for mask in ALL_MASKS:
                 told = filled_by(rule, keepers_in(mask))
                 with self.subTest(rule=rule, mask=mask):
@@ -116,7 +116,7 @@ class ReadsTest(unittest.TestCase):
                     self.fail(f"reads({rule!r}, {mask!r}, {told!r}, {tree!r}) is wrong")
 
     def test_its_own_paper_reads_just_as_it_is(self):
-        for rule in RULES:
+        for rule in RULES + RULES_BEYOND:
             for mask in ALL_MASKS:
                 told = filled_by(rule, keepers_in(mask))
                 with self.subTest(rule=rule, mask=mask):
