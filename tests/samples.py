@@ -1,4 +1,6 @@
-"""Rules and odd things that several tests draw from."""
+"""Rules, halls and odd things that several tests draw from."""
+
+from oneslate import errors
 
 ALL_MASKS = range(64)
 
@@ -77,3 +79,39 @@ ODD_THINGS = [
     (), [], (0,), [0], (1, 2, 3), ((),), [[]], (None, None), ("1", ("0",)), (0,) * 1000, [0] * 1000,
     wrapped(0, 18), wrapped(0, 18, list), wrapped((), 17), chained(0, 9), (((0, 0), 0), 0),
 ]
+
+HALLS = [
+    (0, 0),
+    ((2, (0, 1, 2)), (2, (0, 1, 2))),
+    ((3, (0, 1, 2, 3)), (2, (0, 1, 2, 3))),
+    ((1, (0, 1, 2)), (3, (0, 1, 2))),
+    ((3, (0, 1, 2)), (1, (0, 1, 2))),
+    ((2, (0, 1)), (2, (0, 1, 5))),
+    ((2, (1, 2, 4)), (2, (1, 2))),
+    ((2, ((2, (0, 1, 2)), (2, (3, 4, 5)))), (1, ((2, (0, 1, 2)), (2, (3, 4, 5))))),
+    ((2, (0, (1, (1, 2)), 3)), (3, (0, 1, 2, 3))),
+    ((4, (0, 1, 2, 3, 4, 5)), (3, (0, 1, 2, 3, 4, 5))),
+    ((2, (0, 0, 3)), (2, (0, (1, (3, 4))))),
+]
+
+PARTED = [
+    (0, 1),
+    ((1, (0, 1)), (1, (0, 1))),
+    ((2, (0, 1, 2)), (1, (0, 1, 2))),
+    ((2, (0, 1, 2, 3)), (2, (0, 1, 2, 3))),
+    ((1, (0, 1)), (2, (0, 1, 5))),
+    ((3, (0, 1, 2, 3, 4, 5)), (3, (0, 1, 2, 3, 4, 5))),
+    ((2, (5, 4, 3)), (2, ((1, (3, 0)), (1, (4, 1)), (1, (5, 2))))),
+    ((2, (0, 0, 1)), (1, (0, (2, (0, 3, 4))))),
+]
+
+
+def refused(test, kind, call, *args):
+    """Check that the call is refused with that kind: a SlateError, a ValueError and none of the others."""
+    try:
+        call(*args)
+    except errors.SlateError as error:
+        test.assertIs(type(error), kind, args)
+        test.assertIsInstance(error, ValueError)
+        return
+    test.fail(f"not refused: {args!r}")
