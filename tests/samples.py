@@ -115,3 +115,19 @@ def refused(test, kind, call, *args):
         test.assertIsInstance(error, ValueError)
         return
     test.fail(f"not refused: {args!r}")
+
+
+# All signs that texts handed in have, and some of them for long texts.
+SIGNS = [chr(code) for code in range(32, 127) if chr(code) != "%"] + ["\n", "\t"]
+SHORT_SIGNS = list("0123456789()/- +\n\taA")
+
+
+def bent(text, signs):
+    """Tell the text with a sign put in, taken out or exchanged at any place."""
+    found = []
+    for at in range(len(text) + 1):
+        found.extend(text[:at] + sign + text[at:] for sign in signs)
+        if at < len(text):
+            found.extend(text[:at] + sign + text[at + 1:] for sign in signs)
+            found.append(text[:at] + text[at + 1:])
+    return found

@@ -230,6 +230,24 @@ class NodesTest(unittest.TestCase):
             told = isinstance(node.value, ast.Constant) and isinstance(node.value.value, str)
             self.assertTrue(told or isinstance(node.value, ast.Call), where(path, node))
 
+    def test_texts_with_braces_hold_plain_names(self):
+        for path, node in nodes_of(ast.FormattedValue):
+            self.assertIsInstance(node.value, ast.Name, path.name)
+            self.assertIsNone(node.format_spec, path.name)
+
+    def test_walked_at_once(self):
+        walked = set()
+        for path, node in nodes_of((ast.For, ast.comprehension)):
+            walked.add((path, ast.unparse(node.iter)))
+        for path, node in nodes_of(ast.Call):
+            for arg in node.args:
+                walked.add((path, ast.unparse(arg)))
+        for path, node in nodes_of(ast.Call):
+            name = node.func.id if isinstance(node.func, ast.Name) else node.func.attr
+            if name in ("zip", "enumerate", "reversed", "range", "items", "keys", "values"):
+                self.assertIn((path, ast.unparse(node)), walked, where(path, node))
+            self.assertNotIn(name, ("set", "frozenset", "chr"), where(path, node))
+
     def test_parameters_are_plain(self):
         for path, node in nodes_of(ast.FunctionDef):
             args = node.args
