@@ -9,6 +9,7 @@ from oneslate.doing import along
 from oneslate.houses import House
 from oneslate.lines import last_slate, line_of, way_to
 from oneslate.slates import blank
+from oneslate.sums import doers, sum_of
 from oneslate.tellings import chosen_in, tellings
 from samples import HALLS
 
@@ -113,6 +114,27 @@ class EachOnceTest(unittest.TestCase):
                         house.bring(drawn.randrange(max(0, house.many() - 20), house.many()))
             line = line_of(house.record(), THREE)
             self.assertEqual(last_slate(line)[0], (("a", 12),))
+
+
+    def test_sums_of_driven_houses_come_out(self):
+        for seed in range(40):
+            drawn = random.Random(seed)
+            house = House(THREE, 4)
+            fresh = []
+            for _ in range(400):
+                asker = drawn.randrange(4)
+                if house.stand(asker) == "calm":
+                    fresh += house.begin(asker, ("add", drawn.choice(["a", "b"]), drawn.randrange(1, 99)))
+                if drawn.random() < 0.02 or not fresh:
+                    fresh += house.bell(asker)
+                fresh += house.bring(fresh.pop(drawn.randrange(min(4, len(fresh)))))
+            line = line_of(house.record(), THREE)
+            done = [does(line, place) for place in range(len(line))]
+            added = [row[3] for row in house.history() if row[0] == "begin" and row[1:3] in done]
+            for name in ("a", "b"):
+                self.assertEqual(sum_of(line, name), sum(deed[2] for deed in added if deed[1] == name))
+            self.assertEqual(sum(pair[1] for pair in doers(line)), len(added))
+            self.assertGreater(len(added), 3)
 
 
 class HandingOnTest(unittest.TestCase):
