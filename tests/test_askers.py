@@ -85,7 +85,8 @@ class BeginTest(AskerTest):
 
     def test_what_is_no_deed(self):
         things = [one for one in ODD_THINGS if one is not None] + [("move", hall) for hall in PARTED]
-        things += [list(ADD), ("add", "a", True), ("add", "a"), ("add", "a", 5, 5), ("glance",), "glance", [None], (None,)]
+        things += [list(ADD), ("add", "a", True), ("add", "a"), ("add", "a", 5, 5)]
+        things += [("glance",), "glance", [None], (None,)]
         asker = Asker(1, THREE)
         for thing in things:
             before = state(asker)
@@ -291,7 +292,8 @@ class GlanceTest(AskerTest):
     def test_that_ends_with_its_grants(self):
         asker, told = self.glance(THREE, [(0, (4, 0), OTHER), (2, (4, 0), OTHER)])
         self.assertEqual(told, [])
-        self.assertEqual(state(asker), repr((("saw", (0, (4, 0), OTHER)), 1, "calm", (1, 1), (0, THREE, blank()), False)))
+        told = (("saw", (0, (4, 0), OTHER)), 1, "calm", (1, 1), (0, THREE, blank()), False)
+        self.assertEqual(state(asker), repr(told))
         self.silent(asker, grant(1, (1, 1), (4, 0), OTHER))
         asker, told = self.glance(THREE, [(0, (0, 0), None), (2, (0, 0), None)])
         self.assertEqual(told, [])

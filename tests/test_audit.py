@@ -60,7 +60,8 @@ class DoesTest(unittest.TestCase):
         self.assertIs(type(does(LINE, 0)), tuple)
 
     def test_glances_and_deeds_done_before(self):
-        links = line_with([(0, 1, ADD), (0, 1, ADD), (1, 1, None), (1, 2, ("swap", "a", 9, 9)), (0, 1, ADD), (0, 2, ADD)])
+        rows = [(0, 1, ADD), (0, 1, ADD), (1, 1, None), (1, 2, ("swap", "a", 9, 9)), (0, 1, ADD), (0, 2, ADD)]
+        links = line_with(rows)
         self.assertEqual([does(links, place) for place in range(6)], [(0, 1), None, None, (1, 2), None, (0, 2)])
 
     def test_behind_a_shut_slate(self):
@@ -96,7 +97,8 @@ class LinksTest(unittest.TestCase):
             fault = ("unbegun", place)
             self.assertEqual(audit(LINE, BEGINS[:place] + BEGINS[place + 1:]), fault)
             asker, number, deed = ROWS[place]
-            for other in [(2, number, deed), (asker, number + 3, deed), (asker, number, ("add", "b", 1)), (asker, number, None)]:
+            others = [(2, number, deed), (asker, number + 3, deed), (asker, number, ("add", "b", 1))]
+            for other in others + [(asker, number, None)]:
                 self.assertEqual(audit(LINE, BEGINS[:place] + [began(*other)] + BEGINS[place + 1:]), fault)
         self.assertIs(type(audit(LINE, [])), tuple)
 
@@ -112,7 +114,8 @@ class LinksTest(unittest.TestCase):
         for place in range(4):
             slate = LINE[place][5]
             others = [
-                with_cell(slate, "a", 99), with_doing(slate, 5, 1, 1), with_doing(slate, ROWS[place][0], ROWS[place][1], 77),
+                with_cell(slate, "a", 99), with_doing(slate, 5, 1, 1),
+                with_doing(slate, ROWS[place][0], ROWS[place][1], 77),
                 with_shut(slate, "over"), opened(slate) if place == 2 else with_shut(slate, NEXT), blank(),
             ]
             for other in others:

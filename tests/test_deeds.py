@@ -123,7 +123,8 @@ class IsDeedTest(unittest.TestCase):
     def test_words_bent(self):
         for deed in DEEDS:
             word = deed[0]
-            bent = [word.upper(), word.title(), word + "s", word[:-1], word[1:], " " + word, word + " ", word + "\n", ""]
+            bent = [word.upper(), word.title(), word + "s", word[:-1], word[1:], " " + word, word + " ", word + "\n",
+                ""]
             self.check(False, [(one,) + deed[1:] for one in bent + [None, 0, 1, True, (), [], word[::-1]]])
         for word in FORMS:
             for other in DEEDS:

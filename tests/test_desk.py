@@ -71,9 +71,11 @@ class RowsTest(unittest.TestCase):
     def test_outcomes_of_each_kind(self):
         desk = Desk(TEXT, 4)
         rows = [
-            (0, "glance", "saw 0 0 0"), (0, "put a -7", "did 0"), (1, "put a 0", "did -7"), (1, "add a " + "9" * 60, "did " + "9" * 60),
+            (0, "glance", "saw 0 0 0"), (0, "put a -7", "did 0"), (1, "put a 0", "did -7"),
+            (1, "add a " + "9" * 60, "did " + "9" * 60),
             (1, "add a 1", "did 1" + "0" * 60), (0, "swap a 0 1", "did 0"), (0, "take 0", "did 1 1 0"),
-            (1, "take 0", "did 0 1 0"), (1, "renew 1", "did 0 1 0"), (0, "renew 1", "did 1 2 0"), (0, "sure 2 b 8", "did 1"),
+            (1, "take 0", "did 0 1 0"), (1, "renew 1", "did 0 1 0"), (0, "renew 1", "did 1 2 0"),
+            (0, "sure 2 b 8", "did 1"),
             (1, "sure 2 b 9", "did 0"), (0, "free 2", "did 1 3 none"), (0, "free 2", "did 0 3 none"),
             (2, "move 2(3 4 5) / 2(3 4 5)", "did 1"), (2, "glance", "saw 1 0 0"), (2, "put c 1", "did 0"),
             (2, "end", "did 1"), (3, "put c 2", "over"), (1, "glance", "saw 1 over"),
@@ -128,16 +130,21 @@ class NoRowTest(unittest.TestCase):
         self.assertEqual(state(self.desk), self.before)
 
     def test_words(self):
-        self.check(NoRow, ["", " ", "x", "begin", "begin ", "bell", "bring", "outcome", "cell", "settle", "lines", "Line"])
+        self.check(NoRow, ["", " ", "x", "begin", "begin ", "bell", "bring", "outcome", "cell", "settle", "lines",
+            "Line"])
         self.check(NoRow, ["LINE", "glance", "end", "put a 1", "book 0", "many", "record", "stand 0", "say line", "\n"])
 
     def test_blanks(self):
         for row in ["bell 0", "bring 0", "outcome 0", "cell a", "line", "settle 0 1 1"]:
-            self.check(NoRow, [" " + row, row + " ", row + "\n", row + "\t", "\n" + row, row + " 0", row.replace(" ", "  ", 1) + " "])
+            self.check(NoRow, [" " + row, row + " ", row + "\n", row + "\t", "\n" + row, row + " 0",
+                row.replace(" ", "  ", 1) + " "])
             if " " in row:
-                self.check(NoRow, [row.replace(" ", "  "), row.replace(" ", ""), row.replace(" ", "\t"), row.split(" ")[0]])
-        self.check(NoRow, [" begin 0 glance", "begin  0 glance", "begin 0", "begin0 glance", "begin\t0 glance", "begin 0glance"])
-        self.check(NoRow, ["begin 0\tglance", "begin 0\n", "begin  ", "begin glance", "begin 00 glance", "begin -0 glance"])
+                self.check(NoRow, [row.replace(" ", "  "), row.replace(" ", ""), row.replace(" ", "\t"),
+                    row.split(" ")[0]])
+        self.check(NoRow, [" begin 0 glance", "begin  0 glance", "begin 0", "begin0 glance", "begin\t0 glance",
+            "begin 0glance"])
+        self.check(NoRow, ["begin 0\tglance", "begin 0\n", "begin  ", "begin glance", "begin 00 glance",
+            "begin -0 glance"])
 
     def test_askers(self):
         signs = [sign for sign in SIGNS if sign not in "012345"] + ["00", "01", "-1", "10", "+1", "", "a", "none"]
@@ -164,7 +171,8 @@ class NoRowTest(unittest.TestCase):
         self.assertEqual(self.desk.say("cell abcdefgh"), "0")
 
     def test_no_text(self):
-        wishes = ["", " ", "glance ", " glance", "x", "put a", "put a 5 ", "put  a 5", "move 0 / 1", "end 1", "take -1", "\n", "glance\n"]
+        wishes = ["", " ", "glance ", " glance", "x", "put a", "put a 5 ", "put  a 5", "move 0 / 1", "end 1",
+            "take -1", "\n", "glance\n"]
         self.check(NoText, [f"begin {asker} {wish}" for asker in "012345" for wish in wishes])
 
     def test_what_the_house_refuses(self):
@@ -185,12 +193,14 @@ class NoRowTest(unittest.TestCase):
         self.assertEqual(state(desk), before)
 
     def test_which_comes_first(self):
-        self.check(NoRow, ["begin 6 put", "begin 9 glance", "begin x x", "settle 9 64 100", "settle 5 64 1", "bring -1"])
+        self.check(NoRow, ["begin 6 put", "begin 9 glance", "begin x x", "settle 9 64 100", "settle 5 64 1",
+            "bring -1"])
         self.check(NoText, ["begin 5 put", "begin 1 put", "begin 3 "])
         self.check(NoAsker, ["begin 5 glance"])
 
     def test_long_rows(self):
-        self.check(NoRow, ["x" * 500, " " * 500, "bell " + "0" * 495, "bring " + "1" * 494, "line" * 125, "cell " + "a" * 495])
+        self.check(NoRow, ["x" * 500, " " * 500, "bell " + "0" * 495, "bring " + "1" * 494, "line" * 125,
+            "cell " + "a" * 495])
         self.check(NoText, ["begin 0 " + "x" * 492, "begin 0 " + " " * 492, "begin 0 move " + "1(" * 243])
 
     def test_bent_rows(self):

@@ -78,7 +78,8 @@ class RefusalsTest(unittest.TestCase):
     def test_no_deeds(self):
         for house in self.houses():
             before = state(house, 3)
-            for thing in [one for one in ODD_THINGS if one is not None] + [list(ADD), ("add", "a", True), ("move", (0, 1))]:
+            things = [one for one in ODD_THINGS if one is not None]
+            for thing in things + [list(ADD), ("add", "a", True), ("move", (0, 1))]:
                 for asker in range(3):
                     refused(self, NoDeed, house.begin, asker, thing)
             self.assertEqual(state(house, 3), before)
@@ -106,8 +107,8 @@ class RefusalsTest(unittest.TestCase):
     def test_no_letters(self):
         for house in self.houses():
             before = state(house, 3)
-            things = ODD_THINGS + [-1, house.many(), house.many() + 1, True, False, None, "0", [0], (0,), wrapped(0, 20)]
-            for thing in things:
+            things = ODD_THINGS + [-1, house.many(), house.many() + 1, True, False, None]
+            for thing in things + ["0", [0], (0,), wrapped(0, 20)]:
                 if not (type(thing) is int and 0 <= thing < house.many()):
                     handed = copy.deepcopy(thing)
                     refused(self, NoLetter, house.bring, thing)

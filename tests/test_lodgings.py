@@ -136,7 +136,8 @@ class RefusalsTest(unittest.TestCase):
         house = lodging()
         for turn in ("calm", "busy", "over"):
             before = state(house)
-            for deed in [one for one in ODD_THINGS if one is not None] + [("take",), ("renew", -1), ("take", True), list(ADD)]:
+            things = [one for one in ODD_THINGS if one is not None]
+            for deed in things + [("take",), ("renew", -1), ("take", True), list(ADD)]:
                 refused(self, NoDeed, house.begin, 0, deed)
             for deed in [("take", 0), ("renew", 0), ("take", 10 ** 59), ("renew", 7)]:
                 refused(self, NoWish, house.begin, 0, deed)

@@ -60,13 +60,18 @@ class WishesTest(unittest.TestCase):
 
     def test_parts_too_many_too_few_and_in_other_places(self):
         texts = [
-            "", " ", "put", "put ", "put a", "put a ", "put a 5 ", "put a 5 6", "put 5 a", "put  a 5", "put a  5", " put a 5",
+            "", " ", "put", "put ", "put a", "put a ", "put a 5 ", "put a 5 6", "put 5 a", "put  a 5", "put a  5",
+            " put a 5",
             "puta 5", "put a5", "add a", "swap a 1", "swap a 1 2 3", "swap 1 a 2", "take", "take ", "take -1", "take a",
-            "take 1 2", "renew", "renew -1", "free", "free x", "sure 1 a", "sure a 1 2", "sure -1 a 2", "sure 1 2 a", "move",
-            "move ", "move 0", "move 0 / 1", "move  0 / 0", "move 0 / 0 ", "move 0/0", "end ", " end", "end 1", "ends", "End",
-            "END", "glance ", " glance", "glance 1", "glances", "None", "none", "nil", "put\ta\t5", "put a 5\n", "\nput a 5",
+            "take 1 2", "renew", "renew -1", "free", "free x", "sure 1 a", "sure a 1 2", "sure -1 a 2", "sure 1 2 a",
+            "move",
+            "move ", "move 0", "move 0 / 1", "move  0 / 0", "move 0 / 0 ", "move 0/0", "end ", " end", "end 1", "ends",
+            "End",
+            "END", "glance ", " glance", "glance 1", "glances", "None", "none", "nil", "put\ta\t5", "put a 5\n",
+            "\nput a 5",
             "put A 5", "put abcdefghi 5", "put  5", "put a 05", "put a +5", "put a -0", "take 00", "take 1" + "0" * 60,
-            "put a 1" + "0" * 60, "put a -1" + "0" * 60, "number 5", "name a", "hall 0 / 0", "put a 5 put a 5", "x" * 500,
+            "put a 1" + "0" * 60, "put a -1" + "0" * 60, "number 5", "name a", "hall 0 / 0", "put a 5 put a 5",
+            "x" * 500,
             "put " * 125, " " * 500,
         ]
         for text in texts:
